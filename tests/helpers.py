@@ -1,0 +1,85 @@
+"""What the tests share: exact comparisons, checks of errors, and small rivers."""
+
+import copy
+
+from riverkeeps.rivers import River
+
+
+def raises(case, error, attributes, call, *args, **more):
+    """The call raises exactly this error class, with exactly these attributes."""
+    with case.assertRaises(error) as caught:
+        call(*args, **more)
+    case.assertIs(type(caught.exception), error)
+    # The repr tells True from 1 and a list from a tuple.
+    case.assertEqual(repr(sorted(vars(caught.exception).items())), repr(sorted(attributes.items())))
+
+
+def same(case, got, expected):
+    """Both are equal and of the same kinds at every depth (lists, tuples, integers, bools)."""
+    case.assertEqual(got, expected)
+    case.assertEqual(repr(got), repr(expected))
+
+
+def spoil(value):
+    """Change every list inside of a value, at every depth."""
+    if isinstance(value, (list, tuple)):
+        for item in value:
+            spoil(item)
+    if isinstance(value, list):
+        value.append("spoiled")
+        value.reverse()
+
+
+def lists_in(value):
+    """All list objects inside of a value, at every depth."""
+    found = [value] if isinstance(value, list) else []
+    if isinstance(value, (list, tuple)):
+        for item in value:
+            found += lists_in(item)
+    return found
+
+
+def fresh(case, call, *args, **more):
+    """The call changes no argument, and a change of its answer changes no later answer."""
+    before = copy.deepcopy((args, more))
+    first = call(*args, **more)
+    expected = copy.deepcopy(first)
+    # Kept until the end, so that no two lists of it can have the same id.
+    found = lists_in(first)
+    case.assertEqual(len({id(item) for item in found}), len(found))
+    spoil(first)
+    same(case, call(*args, **more), expected)
+    case.assertEqual(before, (args, more))
+
+
+HILL = ("hill", "mid", 1, ["a", "b", "c"])
+MID = ("mid", None, 1, ["c", "a", "b"])
+SIDE = ("side", "mid", 0, ["b", "c", "a"])
+EXAMPLE_THINGS = [("a", "hill"), ("b", "hill"), ("c", "side")]
+
+
+def example():
+    """The river of the worked example."""
+    return River([HILL, MID, SIDE], EXAMPLE_THINGS)
+
+
+def bare():
+    """A river without things."""
+    return River([("t", None, 3, [])], [])
+
+
+def two_seas():
+    """Two rivers side by side; y has a town of a great room, x towns of room 0."""
+    towns = [("x2", "x1", 0, ["p", "q", "r"]), ("x1", None, 2, ["r", "q", "p"]), ("y", None, 99, ["q", "p", "r"])]
+    return River(towns, [("q", "x2"), ("p", "x1"), ("r", "y")])
+
+
+def forked():
+    """Seven landings towns deep: two arms join, and a tail leads to the sea."""
+    towns = [
+        ("top", "fork", 1, ["d", "c", "b", "a"]),
+        ("arm", "fork", 1, ["a", "b", "c", "d"]),
+        ("fork", "tail", 1, ["b", "d", "a", "c"]),
+        ("tail", None, 1, ["c", "a", "d", "b"]),
+    ]
+    return River(towns, [("a", "top"), ("b", "top"), ("c", "arm"), ("d", "arm")])
