@@ -42,17 +42,17 @@ def is_liking(liking, things):
     return sorted(liking) == sorted(things)
 
 
-def check_liked(liking, thing):
-    """Raise UnknownThing unless the thing is in the liking."""
-    if thing not in liking:
+def check_known(known, thing):
+    """Raise UnknownThing unless the thing is among the known ones."""
+    if thing not in known:
         raise UnknownThing(thing)
 
 
-def check_liked_things(liking, things):
+def check_all_known(known, things):
     """Raise UnknownThing or DuplicateName for the first wrong one of the things."""
     seen = {}
     for thing in things:
-        check_liked(liking, thing)
+        check_known(known, thing)
         if thing in seen:
             raise DuplicateName(thing)
         seen[thing] = True
@@ -60,20 +60,20 @@ def check_liked_things(liking, things):
 
 def rank(liking, thing):
     """Return the index of the thing in the liking."""
-    check_liked(liking, thing)
+    check_known(liking, thing)
     return liking.index(thing)
 
 
 def best(liking, things, many):
     """Return the best of the things, as many as asked for, the best first."""
-    check_liked_things(liking, things)
+    check_all_known(liking, things)
     check_number(many, 0, MAX_ROOM)
     return restrict(liking, things)[:many]
 
 
 def excess(liking, things, many):
     """Return the things that are not among the best, the best of them first."""
-    check_liked_things(liking, things)
+    check_all_known(liking, things)
     check_number(many, 0, MAX_ROOM)
     return restrict(liking, things)[many:]
 
@@ -85,7 +85,7 @@ def restrict(liking, things):
 
 def dropped(liking, thing):
     """Return the liking without the thing."""
-    check_liked(liking, thing)
+    check_known(liking, thing)
     return [item for item in liking if item != thing]
 
 

@@ -11,6 +11,29 @@ FUNCTIONS = {
         "restrict(liking, things)", "dropped(liking, thing)", "inserted(liking, thing, at)", "exchanged(liking, at)",
     ],
     "riverkeeps.rivertext": ["write_river(river)", "read_river(text)", "is_river_text(text)"],
+    "riverkeeps.riverparts": [
+        "renamed(river, *, towns=(), things=())", "upstream(river, town)", "downstream(river, town)",
+        "confluence(river, one, other)", "upstream_order(river)", "basin(river, town)", "only_things(river, things)",
+    ],
+    "riverkeeps.flow": [
+        "landing_before(river, landing)", "is_open(river, landings, landing)", "greatest_within(river, landings)",
+        "in_order(river, landings)",
+    ],
+    "riverkeeps.worlds": [
+        "stage_of_places(river, places)", "write_world(world)", "read_world(river, text)",
+    ],
+    "riverkeeps.deeds": [
+        "refusal(world, thing)", "land(world, thing)", "landing_report(world, thing)", "play(world, things)",
+        "history_of(world, things)", "replay(world, history)", "is_history(world, history, *, goal=None)",
+        "middle(world, history, at)", "can_exchange(world, history, at)", "exchange_path(world, one, other)",
+        "is_exchange_path(world, one, other, path)", "town_record(world, history, town)",
+    ],
+    "riverkeeps.stages": [
+        "is_stage(river, landings)", "free_landings(river, stage)", "union(river, one, other)",
+        "meet(river, one, other)", "greatest_stage(river, *, within=None, without=())", "left_out(river, within)",
+        "is_greatest(river, within, stage)", "arrival_table(river, stage)", "removable(river, stage)",
+        "covering(river, stage)",
+    ],
 }
 
 METHODS = {
@@ -20,10 +43,16 @@ METHODS = {
         "prefers(self, town, one, other)", "town_rows(self)", "thing_rows(self)", "landings(self)",
         "landing_number(self, landing)", "__eq__(self, other)",
     ],
+    ("riverkeeps.worlds", "World"): [
+        "__init__(self, river, *, stage=())", "place(self, thing)", "places(self)", "kept(self, town)",
+        "landed(self, town)", "ahead(self, town)", "at_sea(self)", "free(self)", "__len__(self)", "__iter__(self)",
+        "__contains__(self, landing)", "__or__(self, other)", "__eq__(self, other)",
+    ],
 }
 
 PROPERTIES = {
     ("riverkeeps.rivers", "River"): ["towns", "things"],
+    ("riverkeeps.worlds", "World"): ["stage", "ended"],
 }
 
 
