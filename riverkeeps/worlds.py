@@ -65,7 +65,8 @@ class World:
         return iter(self._stage)
 
     def __contains__(self, landing):
-        return landing in self._stage
+        # A tuple may contain anything here, also what is equal to everything.
+        return all([isinstance(name, str) for name in landing]) and landing in self._stage
 
     def __or__(self, other):
         if not self.river == other.river:

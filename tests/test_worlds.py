@@ -158,7 +158,7 @@ class Containment(unittest.TestCase):
         world = World(example(), stage=END)
         for value in [(), ("a",), ("a", "hill", "mid"), ("a", "side"), ("x", "y"), (1, 2), (None, None), ("hill", "a"),
                       ("a", ["hill"]), (["a"], {}), ({1}, object()), (("a", "hill"),), (("a", "hill"), ("b", "hill")),
-                      ("a", True), (world, world.river)]:
+                      ("a", True), (world, world.river), (mock.ANY, "hill"), (mock.ANY, mock.ANY)]:
             self.assertIs(value in world, False)
 
 
