@@ -1,6 +1,8 @@
 """Checks of arguments by their role, used by every other module."""
 
-from riverkeeps.errors import BadNumber, DuplicateLanding, UnknownLanding, UnknownThing, UnknownTown
+from riverkeeps.errors import BadCount, BadNumber, DuplicateLanding, UnknownLanding, UnknownThing, UnknownTown
+
+MAX_PAIRS = 20
 
 
 def check_number(number, low, high):
@@ -21,6 +23,12 @@ def check_thing(river, thing):
         raise UnknownThing(thing)
 
 
+def check_landing(river, landing):
+    """Raise UnknownLanding unless the river has the landing."""
+    # The number itself does not matter here; asking for it checks the landing.
+    river.landing_number(landing)
+
+
 def check_landings(river, landings):
     """Raise UnknownLanding or DuplicateLanding for the first wrong item of the list."""
     known = {landing: True for landing in river.landings()}
@@ -31,3 +39,9 @@ def check_landings(river, landings):
         if landing in seen:
             raise DuplicateLanding(landing)
         seen[landing] = True
+
+
+def check_pair_count(pairs):
+    """Raise BadCount if there are too many pairs."""
+    if len(pairs) > MAX_PAIRS:
+        raise BadCount("pairs", len(pairs))

@@ -3,7 +3,7 @@
 Where a function takes `done`, it is a dict whose keys are the landings that have been done; nothing is checked.
 """
 
-from riverkeeps.checks import check_landings
+from riverkeeps.checks import check_landing, check_landings
 from riverkeeps.errors import NotStage
 
 
@@ -14,8 +14,7 @@ def as_done(landings):
 
 def landing_before(river, landing):
     """Return the landing of the same thing in the town directly before, or None."""
-    # The number itself does not matter here; asking for it checks the landing.
-    river.landing_number(landing)
+    check_landing(river, landing)
     thing, town = landing
     path = river.path(thing)
     at = path.index(town)

@@ -17,6 +17,12 @@ def place_under(river, done, thing):
     return ("sea", None)
 
 
+def free_under(river, done):
+    """Return the free landings of the stage, in landing order."""
+    places = [(thing, place_under(river, done, thing)) for thing in river.things]
+    return [(thing, town) for thing, (kind, town) in places if kind == "afloat"]
+
+
 def landed_under(river, done, town):
     """Return the things that ever landed in the town, the best first."""
     return [thing for thing in river.liking(town) if (thing, town) in done]

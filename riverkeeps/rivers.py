@@ -23,6 +23,18 @@ def check_row_names(rows):
         seen[name] = True
 
 
+def check_room(town, room):
+    """Raise BadRoom unless the town may have this room."""
+    if isinstance(room, bool) or not 0 <= room <= MAX_ROOM:
+        raise BadRoom(town)
+
+
+def check_liking(town, liking, things):
+    """Raise BadLiking unless the town may have this liking of the things."""
+    if not is_liking(liking, things):
+        raise BadLiking(town)
+
+
 def check_town_rows(towns, things):
     """Check the next town, the room and the liking of each town row."""
     town_names = [row[0] for row in towns]
@@ -30,10 +42,8 @@ def check_town_rows(towns, things):
     for name, after, room, liking in towns:
         if after is not None and after not in town_names:
             raise UnknownTown(after)
-        if isinstance(room, bool) or not 0 <= room <= MAX_ROOM:
-            raise BadRoom(name)
-        if not is_liking(liking, thing_names):
-            raise BadLiking(name)
+        check_room(name, room)
+        check_liking(name, liking, thing_names)
 
 
 def check_springs(towns, things):

@@ -4,6 +4,7 @@ from riverkeeps.checks import check_landings
 from riverkeeps.errors import LandingError
 from riverkeeps.flow import (
     as_done, better_landed, better_things, greatest_within, in_order, landing_before, open_under, stage_list)
+from riverkeeps.places import free_under
 
 
 def is_stage(river, landings):
@@ -17,8 +18,7 @@ def is_stage(river, landings):
 
 def free_landings(river, stage):
     """Return the free landings of the stage, in landing order."""
-    done = as_done(stage_list(river, stage))
-    return [landing for landing in river.landings() if landing not in done and open_under(river, done, landing)]
+    return free_under(river, as_done(stage_list(river, stage)))
 
 
 def union(river, one, other):

@@ -2,6 +2,7 @@
 
 import copy
 
+from riverkeeps.errors import DuplicateLanding, NotStage, UnknownLanding
 from riverkeeps.rivers import River
 
 
@@ -58,9 +59,30 @@ SIDE = ("side", "mid", 0, ["b", "c", "a"])
 EXAMPLE_THINGS = [("a", "hill"), ("b", "hill"), ("c", "side")]
 
 
+# The landings of the worked example, and its end.
+A, A2, B, B2, C, C2 = ("a", "hill"), ("a", "mid"), ("b", "hill"), ("b", "mid"), ("c", "side"), ("c", "mid")
+END = [A, B, B2, C, C2]
+
+# Each list with the error that it raises, and the landing that the error names.
+WRONG_LISTS = [
+    (UnknownLanding, ("x", "y"), [("x", "y")]),
+    (UnknownLanding, ("a", "side"), [A, ("a", "side"), A]),
+    (DuplicateLanding, A, [A, B, A, ("x", "y")]),
+    (DuplicateLanding, A2, [A2, A2]),
+]
+WRONG_STAGES = WRONG_LISTS + [(NotStage, A2, [A2]), (NotStage, B2, [C2, B2, B]), (NotStage, A2, [C2, A, A2])]
+
+
 def example():
     """The river of the worked example."""
     return River([HILL, MID, SIDE], EXAMPLE_THINGS)
+
+
+def wrong(case, lists, call, *behind, **more):
+    """The call refuses each of the lists behind the example river, passed as a list and as a tuple."""
+    for error, landing, landings in lists:
+        raises(case, error, {"landing": landing}, call, example(), landings, *behind, **more)
+        raises(case, error, {"landing": landing}, call, example(), tuple(landings), *behind, **more)
 
 
 def bare():

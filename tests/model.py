@@ -65,6 +65,26 @@ class Model:
                 yield from walk(history + [landing], self.land(places, landing[0])[0])
         return walk([], self.start())
 
+    def onward(self, done):
+        """Every history from the world of the stage, by the stage it leads to, in the order of [46]."""
+        found = {}
+
+        def walk(history, places):
+            found.setdefault(frozenset(done).union(history), []).append(history)
+            for landing in self.free(places):
+                walk(history + [landing], self.land(places, landing[0])[0])
+        walk([], self.stages()[frozenset(done)])
+        return found
+
+    def end(self):
+        """The landings that are done by every history that cannot be continued."""
+        places, done = self.start(), set()
+        while self.free(places):
+            landing = self.free(places)[-1]
+            done.add(landing)
+            places = self.land(places, landing[0])[0]
+        return self.ordered(done)
+
     def stages(self):
         """The places for each set of landings that some history does, whatever the order of the deeds is."""
         found = {frozenset(): self.start()}

@@ -34,6 +34,25 @@ FUNCTIONS = {
         "is_greatest(river, within, stage)", "arrival_table(river, stage)", "removable(river, stage)",
         "covering(river, stage)",
     ],
+    "riverkeeps.roads": [
+        "least_history(river, one, other)", "guided_history(river, one, other, *, wish=())",
+        "deeds_between(river, one, other)", "road(river, one, other)", "is_road(river, one, other, paper)",
+    ],
+    "riverkeeps.ahead": [
+        "must_precede(river, first, then)", "precedence_paper(river, first, then)",
+        "is_precedence_paper(river, first, then, paper)", "needed_before(river, landing)", "precedences(river)",
+        "order_paper(river, pairs)", "is_order_paper(river, pairs, paper)",
+    ],
+    "riverkeeps.ends": [
+        "end_stage(river)", "end_world(river)", "end_places(river)", "reckon(river)", "is_end_places(river, places)",
+        "leaving(river, town)", "room_left(river, town)", "deeds_left(world)",
+    ],
+    "riverkeeps.turns": ["turned(river, turn)", "inverse(river, turn)"],
+}
+
+CONSTANTS = {
+    "riverkeeps.names": {"MAX_TOWNS": 8, "MAX_THINGS": 10, "MAX_ROOM": 99, "MAX_NAME": 8},
+    "riverkeeps.ahead": {"MAX_AHEAD": 24},
 }
 
 METHODS = {
@@ -65,6 +84,11 @@ class Interface(unittest.TestCase):
                 with self.subTest(module, signature=signature):
                     self.assertEqual(function.__name__ + str(inspect.signature(function)), signature)
                     self.assertEqual(function.__module__, module)
+
+    def test_constants(self):
+        for module, constants in CONSTANTS.items():
+            for name, value in constants.items():
+                self.assertEqual(repr(vars(importlib.import_module(module))[name]), repr(value))
 
     def test_methods_stand_in_the_class_itself(self):
         for (module, name), signatures in METHODS.items():

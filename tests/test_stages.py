@@ -3,33 +3,15 @@
 import itertools
 import unittest
 
-from riverkeeps.errors import DuplicateLanding, NotStage, UnknownLanding
 from riverkeeps.rivers import River
 from riverkeeps.stages import (
     arrival_table, covering, free_landings, greatest_stage, is_greatest, is_stage, left_out, meet, removable, union)
-from tests.helpers import bare, example, forked, fresh, raises, same, two_seas
+from tests.helpers import (
+    A, A2, B, B2, C, C2, END, WRONG_LISTS, WRONG_STAGES, bare, example, forked, fresh, raises, same, two_seas, wrong)
 from tests.model import Model, small_rivers, subsets
 
 SMALL = small_rivers(20, least=3, most=6)
 RIVERS = SMALL + [example(), two_seas()]
-
-A, A2, B, B2, C, C2 = ("a", "hill"), ("a", "mid"), ("b", "hill"), ("b", "mid"), ("c", "side"), ("c", "mid")
-END = [A, B, B2, C, C2]
-
-WRONG_LISTS = [
-    (UnknownLanding, ("x", "y"), [("x", "y")]),
-    (UnknownLanding, ("a", "side"), [A, ("a", "side"), A]),
-    (DuplicateLanding, A, [A, B, A, ("x", "y")]),
-    (DuplicateLanding, A2, [A2, A2]),
-]
-WRONG_STAGES = WRONG_LISTS + [(NotStage, A2, [A2]), (NotStage, B2, [C2, B2, B]), (NotStage, A2, [C2, A, A2])]
-
-
-def wrong(case, lists, call, *behind, **more):
-    """The call refuses each of the lists behind the river, passed as a list and as a tuple."""
-    for error, landing, landings in lists:
-        raises(case, error, {"landing": landing}, call, example(), landings, *behind, **more)
-        raises(case, error, {"landing": landing}, call, example(), tuple(landings), *behind, **more)
 
 
 class IsStage(unittest.TestCase):
