@@ -48,11 +48,34 @@ FUNCTIONS = {
         "leaving(river, town)", "room_left(river, town)", "deeds_left(world)",
     ],
     "riverkeeps.turns": ["turned(river, turn)", "inverse(river, turn)"],
+    "riverkeeps.chains": [
+        "chain(river, turn)", "is_chain(river, turn, rows)", "end_by_chain(river, turn)", "moved(river, turn)",
+    ],
+    "riverkeeps.listing": [
+        "list_stages(river, *, low=(), high=None, limit=400)", "count_stages(river, *, low=(), high=None)",
+        "layers(river)", "stage_number(river, stage)", "stage_at(river, number)", "root_stages(river, landing)",
+        "roots_within(river, stage)",
+    ],
+    "riverkeeps.counting": [
+        "count_histories(river, one, other)", "history_number(river, one, other, history)",
+        "history_at(river, one, other, number)", "each_history(river, one, other)",
+    ],
+    "riverkeeps.wishes": [
+        "may_keep(river, thing, town)", "must_keep(river, thing, town)", "keep_paper(river, thing, town)",
+        "is_keep_paper(river, thing, town, paper)", "must_paper(river, thing, town)",
+        "is_must_paper(river, thing, town, paper)", "kept_together(river, pairs)",
+        "is_kept_together(river, pairs, stage)", "least_rooms(river, thing, town, *, most=1)",
+        "grants(river, thing, town, change)", "lift(river, thing, town)",
+    ],
+    "riverkeeps.pieces": ["filled(piece, inflow)", "outflow(piece, inflow)", "inflows(piece)", "outflow_table(piece)"],
 }
 
 CONSTANTS = {
     "riverkeeps.names": {"MAX_TOWNS": 8, "MAX_THINGS": 10, "MAX_ROOM": 99, "MAX_NAME": 8},
     "riverkeeps.ahead": {"MAX_AHEAD": 24},
+    "riverkeeps.listing": {"MAX_STAGES": 400},
+    "riverkeeps.counting": {"MAX_HISTORIES": 200},
+    "riverkeeps.pieces": {"MAX_INFLOWS": 256},
 }
 
 METHODS = {
@@ -67,11 +90,16 @@ METHODS = {
         "landed(self, town)", "ahead(self, town)", "at_sea(self)", "free(self)", "__len__(self)", "__iter__(self)",
         "__contains__(self, landing)", "__or__(self, other)", "__eq__(self, other)",
     ],
+    ("riverkeeps.pieces", "Piece"): [
+        "__init__(self, towns, things, *, mouths=(), foreign=())", "town_rows(self)", "thing_rows(self)",
+        "__eq__(self, other)",
+    ],
 }
 
 PROPERTIES = {
     ("riverkeeps.rivers", "River"): ["towns", "things"],
     ("riverkeeps.worlds", "World"): ["stage", "ended"],
+    ("riverkeeps.pieces", "Piece"): ["towns", "things", "mouths", "foreign", "outlet"],
 }
 
 
@@ -84,6 +112,10 @@ class Interface(unittest.TestCase):
                 with self.subTest(module, signature=signature):
                     self.assertEqual(function.__name__ + str(inspect.signature(function)), signature)
                     self.assertEqual(function.__module__, module)
+
+    def test_the_generator_function(self):
+        from riverkeeps.counting import each_history
+        self.assertTrue(inspect.isgeneratorfunction(each_history))
 
     def test_constants(self):
         for module, constants in CONSTANTS.items():
