@@ -105,3 +105,34 @@ def forked():
         ("tail", None, 1, ["c", "a", "d", "b"]),
     ]
     return River(towns, [("a", "top"), ("b", "top"), ("c", "arm"), ("d", "arm")])
+
+
+def chain_of_three(rooms, likings, springs):
+    """A chain of towns, t0 the last one, with the things a, b and c; each liking is three letters."""
+    rows = [(f"t{at}", f"t{at - 1}" if at else None, int(room), list(liking))
+            for at, (room, liking) in enumerate(zip(rooms, likings))]
+    return River(rows, list(zip("abc", springs)))
+
+
+def thirty_two():
+    """A river of exactly 32 stages: five things, each of which may land at any time."""
+    things = ["a", "b", "c", "d", "e"]
+    return River([("t", None, 2, things), ("u", None, 1, things)], [(thing, "tu"[at // 3]) for at, thing in
+                                                                    enumerate(things)])
+
+
+def thirty_three():
+    """A river of exactly 33 stages."""
+    return chain_of_three("1100100", ["cab", "acb", "acb", "cab", "abc", "abc", "acb"], ["t1", "t3", "t2"])
+
+
+def sixty():
+    """A river of exactly 60 stages: four things that float on everywhere, past one, one, two and four towns."""
+    things = ["a", "b", "c", "d"]
+    rows = [(f"t{at}", f"t{at - 1}" if at else None, 0, things) for at in range(4)]
+    return River(rows, [("a", "t0"), ("b", "t0"), ("c", "t1"), ("d", "t3")])
+
+
+def sixty_one():
+    """A river of exactly 61 stages."""
+    return chain_of_three("1110000", ["bac", "cba", "cab", "bca", "cba", "acb", "cab"], ["t2", "t6", "t4"])

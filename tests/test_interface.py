@@ -68,6 +68,21 @@ FUNCTIONS = {
         "grants(river, thing, town, change)", "lift(river, thing, town)",
     ],
     "riverkeeps.pieces": ["filled(piece, inflow)", "outflow(piece, inflow)", "inflows(piece)", "outflow_table(piece)"],
+    "riverkeeps.gluing": [
+        "cut_out(river, towns)", "inflow_at_end(river, towns)", "joined(upper, lower, mouth)",
+        "put_in(river, towns, piece)",
+    ],
+    "riverkeeps.alike": [
+        "are_comparable(one, other)", "alike(one, other)", "telling_inflow(one, other)",
+        "is_telling(one, other, inflow)", "telling_rivers(one, other)", "smaller(piece)", "is_simple(piece)",
+        "simply_alike(one, other)",
+    ],
+    "riverkeeps.diaries": ["holds(world, sighting)", "is_fit(diary, stages)", "simple_fit(diary)"],
+    "riverkeeps.fits": [
+        "least_fit(diary)", "first_unfit(diary)", "count_fits(diary)", "fit_at(diary, number)",
+        "possible_stages(diary, at)", "may_hold(diary, at, sighting)", "must_hold(diary, at, sighting)",
+        "least_wrong(diary, *, most=2)", "is_wrong_set(diary, addresses)",
+    ],
 }
 
 CONSTANTS = {
@@ -76,6 +91,7 @@ CONSTANTS = {
     "riverkeeps.listing": {"MAX_STAGES": 400},
     "riverkeeps.counting": {"MAX_HISTORIES": 200},
     "riverkeeps.pieces": {"MAX_INFLOWS": 256},
+    "riverkeeps.diaries": {"MAX_DIARY_STAGES": 60},
 }
 
 METHODS = {
@@ -94,12 +110,14 @@ METHODS = {
         "__init__(self, towns, things, *, mouths=(), foreign=())", "town_rows(self)", "thing_rows(self)",
         "__eq__(self, other)",
     ],
+    ("riverkeeps.diaries", "Diary"): ["__init__(self, river, entries)", "__len__(self)"],
 }
 
 PROPERTIES = {
     ("riverkeeps.rivers", "River"): ["towns", "things"],
     ("riverkeeps.worlds", "World"): ["stage", "ended"],
     ("riverkeeps.pieces", "Piece"): ["towns", "things", "mouths", "foreign", "outlet"],
+    ("riverkeeps.diaries", "Diary"): ["entries"],
 }
 
 

@@ -71,6 +71,7 @@ def bound_inside(function):
     arguments = function.args
     found = [one.arg for one in arguments.posonlyargs + arguments.args + arguments.kwonlyargs]
     found += [node.id for node in ast.walk(function) if isinstance(node, ast.Name) and isinstance(node.ctx, ast.Store)]
+    found += [node.name for node in ast.walk(function) if isinstance(node, ast.ExceptHandler) and node.name]
     return found
 
 
