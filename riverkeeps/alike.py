@@ -34,9 +34,7 @@ def telling_inflow(one, other):
 
 def is_inflow(piece, inflow):
     """Judge whether the value is an inflow of the piece."""
-    if not is_list(inflow) or not all([is_row(pair, 2) for pair in inflow]):
-        return False
-    if not all([isinstance(thing, str) and is_number(mouth) for thing, mouth in inflow]):
+    if not is_list(inflow) or not all([is_row(pair, 2) and is_number(pair[1]) for pair in inflow]):
         return False
     try:
         check_inflow(piece, inflow)

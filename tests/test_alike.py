@@ -335,6 +335,9 @@ class Simple(unittest.TestCase):
         raises(self, NotComparable, {}, simply_alike, other, one)
         for piece in (other, sample(), lonely(), piece_of(3, 0), piece_of(3, 2)):
             raises(self, NotComparable, {}, simply_alike, piece, piece)
+        # Simple pieces with other foreign things are not comparable either.
+        raises(self, NotComparable, {}, simply_alike, one_town(1, ["a", "b"]), one_town(1, ["a", "c"]))
+        raises(self, NotComparable, {}, simply_alike, one_town(0, []), one_town(0, ["a"]))
 
     def test_there_is_no_limit(self):
         one = piece_of(10, 1)

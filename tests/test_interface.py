@@ -83,6 +83,19 @@ FUNCTIONS = {
         "possible_stages(diary, at)", "may_hold(diary, at, sighting)", "must_hold(diary, at, sighting)",
         "least_wrong(diary, *, most=2)", "is_wrong_set(diary, addresses)",
     ],
+    "riverkeeps.partial": [
+        "completions(river, known, *, limit=60)", "may_end(river, known, thing)", "must_end(river, known)",
+        "sure_landings(river, known)", "possible_landings(river, known)",
+    ],
+    "riverkeeps.orders": ["plain(order)", "trace(order, world)"],
+    "riverkeeps.running": [
+        "agree(world, one, other)", "parting_stage(river, one, other)", "are_alike(river, one, other)",
+        "results(river, order)",
+    ],
+    "riverkeeps.claims": ["is_good(river, claim, paper)", "paper_for(river, claim)"],
+    "riverkeeps.book": [
+        "replayed(river, log)", "audit(book)", "compare(one, other)", "deeds_of(book, word)",
+    ],
 }
 
 CONSTANTS = {
@@ -92,6 +105,8 @@ CONSTANTS = {
     "riverkeeps.counting": {"MAX_HISTORIES": 200},
     "riverkeeps.pieces": {"MAX_INFLOWS": 256},
     "riverkeeps.diaries": {"MAX_DIARY_STAGES": 60},
+    "riverkeeps.orders": {"MAX_WORDS": 200, "MAX_DEPTH": 6},
+    "riverkeeps.running": {"MAX_ORDER_STAGES": 32},
 }
 
 METHODS = {
@@ -111,6 +126,15 @@ METHODS = {
         "__eq__(self, other)",
     ],
     ("riverkeeps.diaries", "Diary"): ["__init__(self, river, entries)", "__len__(self)"],
+    ("riverkeeps.orders", "Order"): [
+        "__init__(self, text)", "__call__(self, world)", "__len__(self)", "__eq__(self, other)",
+    ],
+    ("riverkeeps.book", "Book"): [
+        "__init__(self, river)", "first_river(self)", "present_river(self)", "present_world(self)",
+        "land(self, thing)", "land_all(self, things)", "run(self, order)", "turn(self, turn)",
+        "file(self, claim, paper)", "claims(self)", "standing(self)", "undo(self)", "log(self)", "twin(self)",
+        "__len__(self)", "__eq__(self, other)",
+    ],
 }
 
 PROPERTIES = {
@@ -118,6 +142,7 @@ PROPERTIES = {
     ("riverkeeps.worlds", "World"): ["stage", "ended"],
     ("riverkeeps.pieces", "Piece"): ["towns", "things", "mouths", "foreign", "outlet"],
     ("riverkeeps.diaries", "Diary"): ["entries"],
+    ("riverkeeps.orders", "Order"): ["text", "statements"],
 }
 
 
