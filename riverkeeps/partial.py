@@ -9,7 +9,7 @@ MAX_COMPLETIONS = 60
 MAX_LIMIT = 120
 
 
-def check_known(river, known):
+def check_groups(river, known):
     """Raise an error unless the pairs (town, groups) tell likings of towns of the river."""
     seen = {}
     for town, groups in known:
@@ -61,7 +61,7 @@ def completed(river, known, limit):
 
 def completions(river, known, *, limit=MAX_COMPLETIONS):
     """Return the rivers in which each named town has one of the likings that its groups allow."""
-    check_known(river, known)
+    check_groups(river, known)
     check_number(limit, 1, MAX_LIMIT)
     return completed(river, known, limit)
 
@@ -73,7 +73,7 @@ def possible_ends(river, known):
 
 def may_end(river, known, thing):
     """Return the places that the thing has at the end of some completion, down its path."""
-    check_known(river, known)
+    check_groups(river, known)
     check_thing(river, thing)
     ends = possible_ends(river, known)
     places = [("kept", town) for town in river.path(thing)] + [("sea", None)]
@@ -82,20 +82,20 @@ def may_end(river, known, thing):
 
 def must_end(river, known):
     """Return the place rows of the things that have the same place at the end of every completion."""
-    check_known(river, known)
+    check_groups(river, known)
     ends = possible_ends(river, known)
     return [row for row in ends[0].places() if all([row in world.places() for world in ends])]
 
 
 def sure_landings(river, known):
     """Return the landings that are in the end of every completion."""
-    check_known(river, known)
+    check_groups(river, known)
     ends = possible_ends(river, known)
     return [landing for landing in river.landings() if all([landing in world for world in ends])]
 
 
 def possible_landings(river, known):
     """Return the landings that are in the end of some completion."""
-    check_known(river, known)
+    check_groups(river, known)
     ends = possible_ends(river, known)
     return [landing for landing in river.landings() if any([landing in world for world in ends])]
